@@ -1,0 +1,1 @@
+"""Ridingvotes: votes that are passed on while they are counted."""
