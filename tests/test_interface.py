@@ -23,6 +23,11 @@ FUNCTIONS = {
     "points": {"promising": (["holding", "ballot"], {}), "taking": (["holding", "ballot", "row", "word"], {})},
     "counts": {"gathered": (["one", "other"], {}), "is_most": (["lot", "points"], {}), "must": (["holding"], {})},
     "letters": {"is_letter": (["thing"], {})},
+    "papers": {"paper": (["world", "row"], {}), "shows_chosen": (["world", "thing"], {})},
+    "choosing": {
+        "can_choose": (["world", "hands"], {}), "least_choosers": (["world"], {}), "blockers": (["world"], {}),
+    },
+    "spreading": {"spread": (["shares", "falls"], {}), "shows_spread": (["shares", "falls", "thing"], {})},
 }
 # For each file its classes, and what their methods are handed.
 CLASSES = {
@@ -31,6 +36,13 @@ CLASSES = {
             "__init__": ["name", "hands", "points", "holding"], "__eq__": ["other"], "book": [], "mind": [],
             "held": [], "ask": ["number"], "offer": ["row", "word"], "give": ["to", "lot"], "again": [], "fall": [],
             "rise": [], "hear": ["letter"],
+        },
+    },
+    "worlds": {
+        "World": {
+            "__init__": ["shares"], "__eq__": ["other"], "__len__": [], "hands": [], "points": [], "hand": ["name"],
+            "road": [], "copy": [], "do": ["deed"], "spots": [], "greatest": [], "took": [], "chosen": [],
+            "settle": ["hands"],
         },
     },
 }
