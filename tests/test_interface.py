@@ -28,6 +28,17 @@ FUNCTIONS = {
         "can_choose": (["world", "hands"], {}), "least_choosers": (["world"], {}), "blockers": (["world"], {}),
     },
     "spreading": {"spread": (["shares", "falls"], {}), "shows_spread": (["shares", "falls", "thing"], {})},
+    "weaving": {
+        "weavings": (["world", "plans"], {"most": 300}), "shows_weavings": (["world", "plans", "thing"], {"most": 300}),
+    },
+    "showing": {
+        "show_lot": (["lot"], {}), "show_holding": (["holding"], {}), "show_letter": (["letter"], {}),
+        "show_world": (["world"], {}),
+    },
+    "reading": {
+        "read_lot": (["text"], {}), "read_holding": (["text"], {}), "read_letter": (["text"], {}),
+        "read_world": (["text"], {}),
+    },
 }
 # For each file its classes, and what their methods are handed.
 CLASSES = {
@@ -45,6 +56,7 @@ CLASSES = {
             "settle": ["hands"],
         },
     },
+    "desk": {"Desk": {"__init__": ["text"], "say": ["line"]}},
 }
 
 
