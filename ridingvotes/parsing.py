@@ -3,9 +3,9 @@
 from ridingvotes.errors import NoText
 from ridingvotes.holdings import is_holding
 from ridingvotes.lots import is_lot
+from ridingvotes.showing import NOTHING
 from ridingvotes.slips import FRESH, NONE, is_ballot, is_slip
 
-NOTHING = "-"
 MOST_FIGURES = 12
 
 

@@ -1,8 +1,9 @@
 """Texts of lots, holdings, letters and worlds."""
 
 from ridingvotes.letters import PARTS
-from ridingvotes.slips import FRESH, NONE
+from ridingvotes.slips import NONE
 
+# What stands where nothing is.
 NOTHING = "-"
 
 
@@ -26,11 +27,10 @@ def show_letter(letter):
 def show_world(world):
     """The text of the world."""
     rows = [f"world {world.points()} {world.hands()}"]
-    for name in range(world.hands()):
-        hand = world.hand(name)
-        rows.extend(book_rows(hand.book(), hand.mind() is not None))
-        if hand.mind() is not None:
-            rows.extend(mind_rows(hand.mind()))
+    for book, mind in world.books_and_minds():
+        rows.extend(book_rows(book, mind is not None))
+        if mind is not None:
+            rows.extend(mind_rows(mind))
     rows.extend(["letter " + show_letter(letter) for letter in world.road()])
     return "\n".join(rows)
 
@@ -54,8 +54,6 @@ def show_ballot(ballot):
 def show_slip(slip):
     """The text of a slip."""
     promised, taken = slip
-    if slip == FRESH:
-        return NOTHING
     return "/".join([show_ballot(promised)] + [f"{row}={show_ballot(ballot)}={word}" for row, ballot, word in taken])
 
 

@@ -63,8 +63,8 @@ def passed(shares, bound, moves):
 def shows_spread(shares, falls, thing):
     """Whether the thing, of whatever kind, is such a spread, with so few points passed."""
     least = spread(shares, falls)
-    if least is None or thing is None:
-        return least is None and thing is None
+    if least is None:
+        return thing is None
     if not has_parts(thing, 2) or not is_from(thing[0], 0) or thing[0] != least[0]:
         return False
     moves, behind = thing

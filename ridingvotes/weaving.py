@@ -3,7 +3,6 @@
 A state is (world, done), done how many deeds of each plan are done.
 """
 
-from ridingvotes.basics import is_from
 from ridingvotes.errors import Missing, VoteError
 
 
@@ -40,23 +39,21 @@ def is_same(thing, told):
         if not isinstance(thing, tuple) or len(thing) != len(told):
             return False
         return all([is_same(one, other) for one, other in zip(thing, told)])
-    if isinstance(told, str):
-        return isinstance(thing, str) and thing == told
-    return is_from(thing, told) and thing == told
+    # A truth equals a number, too.
+    return thing == told and not isinstance(thing, bool)
 
 
 def key_of(state):
     """A text that is the same just for states that are one."""
     world, done = state
-    hands = [world.hand(name) for name in range(world.hands())]
     # Numbers and texts all through, so that their text tells them apart; as tuples they may be too deep for a key.
-    return repr(([(hand.book(), hand.mind()) for hand in hands], sorted(world.road()), done))
+    return repr((world.books_and_minds(), sorted(world.road()), done))
 
 
 def end_of(state):
     """(knows, chosen) of a state in which nothing is left."""
     world, _ = state
-    return (tuple([world.hand(name).known for name in range(world.hands())]), world.chosen())
+    return (tuple([hand.known for hand in world.members]), world.chosen())
 
 
 def states_behind(state, plans):

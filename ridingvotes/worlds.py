@@ -97,6 +97,10 @@ class World:
         self.check_hand(name)
         return copy_of(self.members[name])
 
+    def books_and_minds(self):
+        """(book, mind) of each hand, without a copy of it."""
+        return [(hand.book(), hand.mind()) for hand in self.members]
+
     def road(self):
         """The letters under way, in the order sent."""
         return tuple(self.letters)

@@ -2,7 +2,8 @@
 
 SIGNS = "0123456789-.,;:/= \n\tabx+_"
 # They look like figures, blanks or strokes, and Python takes some of them for such.
-STRANGE = ("\u0663", "\u00b2", "\uff11", "\u2460", "\u00bd", "\u2212", "\u2013", "\u00a0", "\u3000", "\x0b", "\x0c", "\r",
+STRANGE = ("\u0663", "\u00b2", "\uff11", "\u2460", "\u00bd", "\u2212", "\u2013", "\u00a0", "\u3000", "\x0b", "\x0c",
+           "\r",
            "\x1c", "\x85", "\u2028", "\x00", "\uff0c", "\u0966")
 
 
@@ -47,7 +48,7 @@ def rows_otherwise(text):
 
 
 def numbers_otherwise(text):
-    """The text with one of its numbers otherwise: with noughts ahead, of thirteen figures and of thousands, and others."""
+    """The text with one of its numbers otherwise: noughts ahead, thirteen figures and thousands, and others."""
     found, begin = [], None
     for at, sign in enumerate(text + " "):
         if sign in "0123456789":
@@ -55,7 +56,8 @@ def numbers_otherwise(text):
         elif begin is not None:
             number = text[begin:at]
             others = ["0" + number, "00", "-" + number, "+" + number, "1" * 13, "1" + "0" * 12, "9" * 12, "1" * 5000,
-                      "0", "1", "2", "9", str(int(number) + 1), str(max(0, int(number) - 1)), "1_0", number + ".0", "1e3",
+                      "0", "1", "2", "9", str(int(number) + 1), str(max(0, int(number) - 1)), "1_0", number + ".0",
+                      "1e3",
                       "0x1", "", "-", "none", "x"]
             found += [text[:begin] + other + text[at:] for other in others]
             begin = None

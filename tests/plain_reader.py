@@ -50,7 +50,8 @@ def is_holding(text):
     runs = runs_of(text)
     if not all(first <= last and is_slip(slip) for first, last, slip in runs):
         return False
-    return all(one[1] < other[0] and (one[1] + 1 < other[0] or one[2] != other[2]) for one, other in zip(runs, runs[1:]))
+    return all(one[1] < other[0] and (one[1] + 1 < other[0] or one[2] != other[2])
+               for one, other in zip(runs, runs[1:]))
 
 
 def is_lot(text):

@@ -142,4 +142,5 @@ class PlainWorld:
         return None
 
     def can_choose(self, hands):
-        return self.is_most([point for point, ((place, _, _),) in self.places().items() if set(place[:2]) <= set(hands)])
+        places = {point: here[0][0] for point, here in self.places().items()}
+        return self.is_most([point for point, place in places.items() if set(place[:2]) <= set(hands)])

@@ -1,5 +1,6 @@
 from ridingvotes.desk import Desk
-from ridingvotes.errors import (Fallen, FarRow, Known, NoHand, NoLetter, NoLine, NoLot, NoPoint, NotHeld, NotMost, NoText,
+from ridingvotes.errors import (Fallen, FarRow, Known, NoHand, NoLetter, NoLine, NoLot, NoPoint, NotHeld, NotMost,
+                                NoText,
                                 OldBallot, Standing)
 from ridingvotes.reading import read_world
 from ridingvotes.showing import show_world
@@ -7,7 +8,8 @@ from tests.misspelling import STRANGE, signs_otherwise
 from tests.things import DEEPEST, FAR, LONG, ODD, nested
 from tests.world_case import ASKED, CHOSEN, WorldCase, led
 
-FORMS = {"ask": 2, "offer": 3, "give": 3, "again": 1, "fall": 1, "rise": 1, "come": 1, "lose": 1, "double": 1, "road": 0,
+FORMS = {"ask": 2, "offer": 3, "give": 3, "again": 1, "fall": 1, "rise": 1, "come": 1, "lose": 1, "double": 1,
+         "road": 0,
          "holds": 1, "knows": 1, "where": 1, "chosen": 1, "paper": 1, "least": 0, "text": 0}
 
 
@@ -39,7 +41,8 @@ class Deeds(DeskCase):
         self.leads((3, 3, 3), (), (
             ("ask 0 1", ("ask", 0, 1)), ("come 1", ("come", 1)), ("come 0", ("come", 0)), ("double 0", ("double", 0)),
             ("come 2", ("come", 2)), ("lose 1", ("lose", 1)), ("offer 0 1 7", ("offer", 0, 1, 7)),
-            ("offer 0 1 8", ("offer", 0, 1, 8)), ("offer 0 0 0", ("offer", 0, 0, 0)), ("give 0 2 1", ("give", 0, 2, ((1, 1),))),
+            ("offer 0 1 8", ("offer", 0, 1, 8)), ("offer 0 0 0", ("offer", 0, 0, 0)),
+            ("give 0 2 1", ("give", 0, 2, ((1, 1),))),
             ("give 1 0 3,5", ("give", 1, 0, ((3, 3), (5, 5)))), ("give 2 0 6-7", ("give", 2, 0, ((6, 7),))),
             ("again 0", ("again", 0)), ("fall 2", ("fall", 2)), ("rise 2", ("rise", 2)), ("again 1", ("again", 1))))
 
@@ -131,7 +134,8 @@ class Asked(DeskCase):
 
     def test_a_desk_of_that_text_goes_on_alike(self):
         desk = desk_of((3, 3, 3))
-        for line in ("ask 0 1", "settle 0 1", "offer 0 0 7", "give 0 2 0-1", "come 0", "come 0", "fall 1", "come 0", "rise 1",
+        for line in ("ask 0 1", "settle 0 1", "offer 0 0 7", "give 0 2 0-1", "come 0", "come 0", "fall 1", "come 0",
+                     "rise 1",
                      "ask 1 2", "again 0", "settle 0 1 2", "offer 1 1 8", "settle 2 1", "paper 0", "road", "least"):
             other = Desk(desk.say("text").replace(" | ", "\n"))
             self.assertIsNot(other, desk)
@@ -157,12 +161,15 @@ class Refused(DeskCase):
                 ("ask 3 9", NoHand, 3), ("ask 2 9", Fallen, 2), ("ask 0 1", OldBallot, 1), ("ask 0 0", OldBallot, 0),
                 ("offer 3 1 7", NoHand, 3), ("offer 2 1 7", Fallen, 2), ("offer 1 1 7", NotMost, 1),
                 ("offer 0 0 7", Known, 0), ("offer 0 21 7", FarRow, 21), ("give 3 0 0", NoHand, 3),
-                ("give 2 0 6", Fallen, 2), ("give 0 0 0", NoHand, 0), ("give 0 3 0", NoHand, 3), ("give 0 1 -", NoLot, ()),
+                ("give 2 0 6", Fallen, 2), ("give 0 0 0", NoHand, 0), ("give 0 3 0", NoHand, 3),
+                ("give 0 1 -", NoLot, ()),
                 ("give 0 1 1-3", NotHeld, 3), ("again 3", NoHand, 3), ("again 2", Fallen, 2), ("fall 2", Fallen, 2),
                 ("fall 9", NoHand, 9), ("rise 0", Standing, 0), ("rise 3", NoHand, 3), ("come 0", NoLetter, 0),
                 ("lose 0", NoLetter, 0), ("double 7", NoLetter, 7), ("settle 3", NoHand, 3), ("settle 0 0", NoHand, 0),
-                ("settle 0 2", Fallen, 2), ("settle 2 1 2", NoHand, 2), ("settle 2 0 3", NoHand, 3), ("holds 3", NoHand, 3),
-                ("knows 3", NoHand, 3), ("choose 3", NoHand, 3), ("choose 0 0", NoHand, 0), ("choose 0 1 1 3", NoHand, 1),
+                ("settle 0 2", Fallen, 2), ("settle 2 1 2", NoHand, 2), ("settle 2 0 3", NoHand, 3),
+                ("holds 3", NoHand, 3),
+                ("knows 3", NoHand, 3), ("choose 3", NoHand, 3), ("choose 0 0", NoHand, 0),
+                ("choose 0 1 1 3", NoHand, 1),
                 ("choose 2 0 3 3", NoHand, 3), ("where 9", NoPoint, 9), ("where 999999999999", NoPoint, FAR)):
             with self.subTest(line):
                 self.refuses(desk, error, value, line)
@@ -170,8 +177,10 @@ class Refused(DeskCase):
     def test_several_due(self):
         desk = desk_of((3, 3, 3), ("fall", 2))
         for line, error, value in (
-                ("give 2 2 -", Fallen, 2), ("give 0 0 -", NoHand, 0), ("give 3 9 -", NoHand, 3), ("give 0 1 -", NoLot, ()),
-                ("offer 2 99 7", Fallen, 2), ("offer 0 99 7", NotMost, 0), ("ask 2 0", Fallen, 2), ("settle 2 2", NoHand, 2),
+                ("give 2 2 -", Fallen, 2), ("give 0 0 -", NoHand, 0), ("give 3 9 -", NoHand, 3),
+                ("give 0 1 -", NoLot, ()),
+                ("offer 2 99 7", Fallen, 2), ("offer 0 99 7", NotMost, 0), ("ask 2 0", Fallen, 2),
+                ("settle 2 2", NoHand, 2),
                 ("settle 2 3", NoHand, 3)):
             self.refuses(desk, error, value, line)
 
@@ -195,7 +204,8 @@ class Refused(DeskCase):
                          " ".join([word] + parts) + "\n", "\n" + " ".join([word] + parts)):
                 self.refuses(desk, NoLine, line, line)
             for at in range(many):
-                for part in ("", "-1", "+1", "00", "01", "1.0", "x", "1000000000000", "1" * 5000, "None", "True", "0x1", "1_0",
+                for part in ("", "-1", "+1", "00", "01", "1.0", "x", "1000000000000", "1" * 5000, "None", "True",
+                             "0x1", "1_0",
                              "\u0663", "\u00b2", "0-1" if (word, at) != ("give", 2) else "1-1",
                              "-" if (word, at) != ("give", 2) else "--"):
                     line = " ".join([word] + parts[:at] + [part] + parts[at + 1:])
@@ -204,13 +214,15 @@ class Refused(DeskCase):
     def test_settle_and_choose_by_their_form(self):
         desk = desk_of((3, 3, 3), ("ask", 0, 1))
         for word in ("settle", "choose"):
-            for line in (word, word + " ", word + " -", word + " 0,1", word + " 0  1", word + " 0 1 ", word + " x", word + " 00",
+            for line in (word, word + " ", word + " -", word + " 0,1", word + " 0  1", word + " 0 1 ", word + " x",
+                         word + " 00",
                          word + " 0 01", word + " 1000000000000", word + " 0-1", word + " ()", word + "\n0"):
                 self.refuses(desk, NoLine, line, line)
 
     def test_lots_by_their_form(self):
         desk = desk_of((9, 3))
-        for lot in ("4,3", "3,4", "0-2,3", "0-2,3-4", "0-2,2", "4-3", "3-3", "0-", "-2", "0,", ",0", "0,,2", "0;2", "0-2:-",
+        for lot in ("4,3", "3,4", "0-2,3", "0-2,3-4", "0-2,2", "4-3", "3-3", "0-", "-2", "0,", ",0", "0,,2", "0;2",
+                    "0-2:-",
                     "00", "0-02", "0-1-2", "1000000000000", "0-1000000000000", "0 2", ""):
             line = "give 0 1 " + lot
             self.refuses(desk, NoLine, line, line)
@@ -218,15 +230,19 @@ class Refused(DeskCase):
 
     def test_no_line_ahead_of_all(self):
         desk = desk_of((3, 3, 3), ("fall", 2))
-        for line in ("ask 9 x", "give 9 9 4,3", "offer 9 9", "settle 9 9 x", "choose 0 0 x", "fall 2 2", "come 99 0", "where",
+        for line in ("ask 9 x", "give 9 9 4,3", "offer 9 9", "settle 9 9 x", "choose 0 0 x", "fall 2 2", "come 99 0",
+                     "where",
                      "holds 9 9", "none 9"):
             self.refuses(desk, NoLine, line, line)
 
     def test_other_words(self):
         desk = desk_of((3, 3, 3))
-        for line in ("", " ", "-", "none", "hear 0", "hand 0", "world", "took", "spots", "greatest", "blockers", "copy", "letter",
-                     "done", "yes", "road road", "text text", "ask", "0", "0 ask 1", "ask-0-1", "ask,0,1", "Ask 0 1", "text\n",
-                     "say text", "points", "hands", "__class__", "least ", "*", "ask 0 1 ; ask 1 1", "ask 0 1 | ask 1 1"):
+        for line in ("", " ", "-", "none", "hear 0", "hand 0", "world", "took", "spots", "greatest", "blockers",
+                     "copy", "letter",
+                     "done", "yes", "road road", "text text", "ask", "0", "0 ask 1", "ask-0-1", "ask,0,1", "Ask 0 1",
+                     "text\n",
+                     "say text", "points", "hands", "__class__", "least ", "*", "ask 0 1 ; ask 1 1",
+                     "ask 0 1 | ask 1 1"):
             self.refuses(desk, NoLine, line, line)
 
     def test_things_of_any_kind(self):

@@ -34,7 +34,8 @@ class Paper(WorldCase):
         self.is_told(paper(world, 0), ("chosen", 0, (1, 0), 7, ((0, ((0, 2),)), (1, ((3, 5),)))))
 
     def test_a_hand_all_of_whose_points_are_of_hands_ahead(self):
-        world = led((3, 3, 0), *ASKED, ("offer", 0, 0, 7), ("give", 0, 2, ((0, 2),)), ("come", 1), ("come", 1), ("come", 0))
+        world = led((3, 3, 0), *ASKED, ("offer", 0, 0, 7), ("give", 0, 2, ((0, 2),)), ("come", 1), ("come", 1),
+                    ("come", 0))
         self.is_told(world.hand(2).book()[11], ((0, (1, 0), 7, ((0, 2),)),))
         self.is_told(paper(world, 0), ("chosen", 0, (1, 0), 7, ((0, ((0, 2),)), (1, ((3, 5),)))))
 

@@ -141,7 +141,8 @@ class ShowsSpread(WorldCase):
         self.assertIs(shows_spread((2, 1, 1, 0), 1, (1, (1, 1, 1, 1))), True)
         for thing in ([1, (1, 1, 1, 1)], (True, (1, 1, 1, 1)), (1, [1, 1, 1, 1]), (1, (True, 1, 1, 1)),
                       (1, (1, 1, 1, True)), ("1", (1, 1, 1, 1)), (1, "1111"), (1, (1, 1, 1, "1")), (1,), (1, 1, 1, 1),
-                      (1, (1, 1, 1, 1), ()), (1, (1, 1, 1, (1,))), (1, (1, 1, 1, None)), (None, None), ((1, 1, 1, 1), 1)):
+                      (1, (1, 1, 1, 1), ()), (1, (1, 1, 1, (1,))), (1, (1, 1, 1, None)), (None, None),
+                      ((1, 1, 1, 1), 1)):
             self.assertIs(shows_spread((2, 1, 1, 0), 1, thing), False)
         self.assertIs(shows_spread((3, 3, 3), 1, (False, (3, 3, 3))), False)
 

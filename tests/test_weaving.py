@@ -118,7 +118,8 @@ class Weavings(WorldCase):
 
     def test_deeds_that_are_refused(self):
         many = weavings(World((3, 2)), ((ASK,), ()))[1]
-        for deed in (("ask", 0), ("offer", 0, 7), ("offer", 99, None), ("give", 0, ((0, 0),)), ("give", 5, None), ("rise",),
+        for deed in (("ask", 0), ("offer", 0, 7), ("offer", 99, None), ("give", 0, ((0, 0),)), ("give", 5, None),
+                     ("rise",),
                      ("give", 1, ((9, 9),)), ("ask", None), ("offer", 0, -1)):
             self.is_told(self.goes(World((3, 2)), ((deed,), ())), ("all", 2, ((((), ()), ()),)))
             # The states of the other hand's plan, and each once more with this deed done.
@@ -178,6 +179,10 @@ class Weavings(WorldCase):
         self.is_told(weavings(World((1,)), ((("rise",),) * 299,))[:2], ("all", 300))
         self.is_told(weavings(World((1,)), ((("rise",),) * 300,)), ("open", 300))
         self.is_told(weavings(World((1,)), ((("rise",),) * 300,), most=301)[:2], ("all", 301))
+        ends = ((((),), ()),)
+        self.assertIs(shows_weavings(World((1,)), ((("rise",),) * 299,), ("all", 300, ends)), True)
+        self.assertIs(shows_weavings(World((1,)), ((("rise",),) * 300,), ("all", 301, ends)), False)
+        self.assertIs(shows_weavings(World((1,)), ((("rise",),) * 300,), ("open", 300)), True)
 
     def test_as_plain_worlds(self):
         for shares, plans in (((2, 1), ((ASK, OFFER), ())), ((1, 2), ((ASK, OFFER), ())),
@@ -209,9 +214,12 @@ class ShowsWeavings(WorldCase):
         _, many, ends = told
         self.is_told(ends, ((((), ()), ()), (((7,), (7,)), ((0, 7),))))
         for thing in (("all", many + 1, ends), ("all", many - 1, ends), ("all", 0, ends), ("all", -many, ends),
-                      ("open", many, ends), ("All", many, ends), ("all", many), ("all", many, ends, ()), ("all", many, ()),
-                      ("all", many, ends[:1]), ("all", many, ends[1:]), ("all", many, ends[::-1]), ("all", many, ends * 2),
-                      ("all", many, ends + ((((8,), (8,)), ((0, 8),)),)), ("open", 300), ("open", many), (many, "all", ends),
+                      ("open", many, ends), ("All", many, ends), ("all", many), ("all", many, ends, ()),
+                      ("all", many, ()),
+                      ("all", many, ends[:1]), ("all", many, ends[1:]), ("all", many, ends[::-1]),
+                      ("all", many, ends * 2),
+                      ("all", many, ends + ((((8,), (8,)), ((0, 8),)),)), ("open", 300), ("open", many),
+                      (many, "all", ends),
                       ("all", many, ((((), ()), ()), (((7,), ()), ((0, 7),)))),
                       ("all", many, ((((), ()), ()), (((8,), (7,)), ((0, 7),)))),
                       ("all", many, ((((), ()), ()), (((7,), (7,)), ((0, 8),)))),
@@ -235,7 +243,8 @@ class ShowsWeavings(WorldCase):
         self.is_told(weavings(world, plans), told)
         self.assertIs(shows_weavings(world, plans, told), True)
         for thing in (("all", True, told[2]), ("all", 1, ((((True, 0),), ((0, 1), (1, 0))),)),
-                      ("all", 1, ((((1, False),), ((0, 1), (1, 0))),)), ("all", 1, ((((1, 0),), ((False, 1), (1, 0))),)),
+                      ("all", 1, ((((1, False),), ((0, 1), (1, 0))),)),
+                      ("all", 1, ((((1, 0),), ((False, 1), (1, 0))),)),
                       ("all", 1, ((((1, 0),), ((0, True), (1, 0))),)), ["all", 1, told[2]], ("all", 1, list(told[2])),
                       ("all", 1, ([((1, 0),), ((0, 1), (1, 0))],)), ("all", 1, ((((1, 0),), [(0, 1), (1, 0)]),)),
                       ("all", 1, ((([1, 0],), ((0, 1), (1, 0))),)), ("all", "1", told[2]), ("all", None, told[2])):
@@ -288,7 +297,8 @@ class InAllWeavings(WorldCase):
                 waiting.append(behind)
 
     def test_a_hand_with_more_than_half_chooses_alone(self):
-        for shares, deeds, plans in (((3, 1, 1), (), ((ASK, OFFER), (), ())), ((3, 2), (), ((ASK, OFFER), (("ask", 1),))),
+        for shares, deeds, plans in (((3, 1, 1), (), ((ASK, OFFER), (), ())),
+                                     ((3, 2), (), ((ASK, OFFER), (("ask", 1),))),
                                      ((2, 1), (("ask", 1, 1),), ((("ask", 2), OFFER), (("offer", 0, 8),))),
                                      ((2, 1), (), ((ASK, OFFER, ("offer", 1, 8)), (("give", 0, ((2, 2),)),)))):
             number = plans[0][0][1]

@@ -125,8 +125,10 @@ class Greatest(WorldCase):
         self.is_told(world_of(2, hands, []).greatest(), NONE)
         held = ((1, 1, ((6, 0), ((0, (5, 1), 7),))),)
         parcel = ((1, 0, held, 0, ()),)
-        for parts, ballot in (((held, NONE, (), 0, (), (), (), ()), (6, 0)), (((), (3, 1), (), 0, (), (), (), ()), (3, 1)),
-                              (((), NONE, (), 4, (), (), (), ()), (4, 0)), (((), NONE, (), 0, (), (), (), parcel), (6, 0))):
+        for parts, ballot in (((held, NONE, (), 0, (), (), (), ()), (6, 0)),
+                              (((), (3, 1), (), 0, (), (), (), ()), (3, 1)),
+                              (((), NONE, (), 4, (), (), (), ()), (4, 0)),
+                              (((), NONE, (), 0, (), (), (), parcel), (6, 0))):
             hand = restored((0, *parts, (0, 0), (0, 0), ()), None, 2)
             self.is_told(world_of(2, [hand, hands[1]], []).greatest(), ballot)
         for letter, ballot in ((("ask", 0, 1, (2, 0), 9), (2, 0)), (("told", 0, 1, (2, 1), held, 0, (9,)), (2, 1)),

@@ -4,7 +4,6 @@ from ridingvotes.errors import NoText
 from ridingvotes.reading import read_world
 from ridingvotes.showing import show_world
 from ridingvotes.worlds import World
-from tests.hand_case import parts_of
 from tests.misspelling import numbers_otherwise, rows_otherwise, signs_otherwise, strange_signs
 from tests.plain_reader import Reader
 from tests.things import DEEPEST, LONG, ODD
@@ -188,15 +187,18 @@ class Refused(WorldTextCase):
 
     def test_the_first_row(self):
         for row in ("", " ", "world", "world 5", "world 5 2 ", "world 5 2 0", "world 05 2", "world 5 02", "world 0 2",
-                    "world 5 0", "world 5 9", "world -5 2", "world - 2", "world 5 -", "World 5 2", "worlds 5 2", " world 5 2",
-                    "world  5 2", "world 1000000000000 2", "world 5 2000000000000", "world " + "1" * 5000 + " 2", "hand 0 up",
+                    "world 5 0", "world 5 9", "world -5 2", "world - 2", "world 5 -", "World 5 2", "worlds 5 2",
+                    " world 5 2",
+                    "world  5 2", "world 1000000000000 2", "world 5 2000000000000", "world " + "1" * 5000 + " 2",
+                    "hand 0 up",
                     "world 5 \u0662", "world 5,2", "world 5 2\r"):
             self.not_read(0, changed(FIRST, 0, row))
             self.not_read(0, row)
         self.not_read(0, "\n" + FIRST)
 
     def test_hands_and_their_names(self):
-        for row in ("hand 1 up", "hand 2 up", "hand 00 up", "hand - up", "hand 0 Up", "hand 0", "hand 0 up up", "hand 0 -",
+        for row in ("hand 1 up", "hand 2 up", "hand 00 up", "hand - up", "hand 0 Up", "hand 0", "hand 0 up up",
+                    "hand 0 -",
                     "hand up 0", "hands 0 up", "hand  0 up", "holds 0-2:-"):
             self.not_read(1, changed(FIRST, 1, row))
         for row in ("hand 0 up", "hand 2 up", "hand 01 up", "hand 1 none", "letter ask 0 1 2.0 3"):
@@ -218,13 +220,21 @@ class Refused(WorldTextCase):
 
     def test_rows_of_the_hand(self):
         for at, rows in (
-                (2, ("holds", "holds 0-2", "holds 0:-", "holds 0-2:- -", "holds 0-2:-;3-4:-", "holds -0-2:-", "hold 0-2:-")),
+                (2,
+                 ("holds", "holds 0-2", "holds 0:-", "holds 0-2:- -", "holds 0-2:-;3-4:-", "holds -0-2:-",
+                  "hold 0-2:-")),
                 (3, ("heard -", "heard - - -", "heard - 0=7", "heard 0.0 -", "heard 1 -", "heard 1.0", "heard 1.0 0=",
                      "heard 1.0 0=7,0=8", "heard 1.0 1=7,0=8", "heard 1.0 0=7,", "heard 1.0 0-7", "heard 1.0 7")),
-                (4, ("asks 0", "asks -", "asks - -", "asks 1.0 -", "asks 00 -", "asks 0 0", "asks 0 1=7,1=8", "asks 0 2=7,1=8")),
+                (4,
+                 ("asks 0", "asks -", "asks - -", "asks 1.0 -", "asks 00 -", "asks 0 0", "asks 0 1=7,1=8",
+                  "asks 0 2=7,1=8")),
                 (5, ("knows", "knows 7 8", "knows 7,", "knows ,7", "knows 07", "knows 0=7", "knows none", "knows 7-8")),
-                (6, ("more", "more 7", "more 2=8,1=8", "more 1=8,1=8", "more 1=8 2=8", "more 1=8,", "knows -", "sent 0 0")),
-                (7, ("sent", "sent 0", "sent 0 0 0", "sent 0 -", "sent -", "sent 0 00", "sent 0,0", "sent  0 0", "taken 0 0")),
+                (6,
+                 ("more", "more 7", "more 2=8,1=8", "more 1=8,1=8", "more 1=8 2=8", "more 1=8,", "knows -",
+                  "sent 0 0")),
+                (7,
+                 ("sent", "sent 0", "sent 0 0 0", "sent 0 -", "sent -", "sent 0 00", "sent 0,0", "sent  0 0",
+                  "taken 0 0")),
                 (8, ("taken", "taken 0", "taken 0 0 0", "taken - 0", "sent 0 0", "gathered none", "log 0 1.0 7 0")),
                 (9, ("gathered", "gathered None", "gathered none none", "gathered 0", "gathered 0-2", "learns 0 0",
                      "gathered 4-3:-", "counts 0 -")),
@@ -237,7 +247,8 @@ class Refused(WorldTextCase):
         at = place(FULL, "out 1 1 1-1:1.0/2=1.0=8 1 -")
         held = "1-1:1.0/2=1.0=8"
         for row in (f"out 0 1 {held} 1 -", f"out 3 1 {held} 1 -", f"out - 1 {held} 1 -", f"out 1 - {held} 1 -",
-                    f"out 1 1 {held} - -", f"out 1 1 {held} 1", f"out 1 1 {held} 1 - -", "out 1 1 1 1 -", "out 1 1 1-1 1 -",
+                    f"out 1 1 {held} - -", f"out 1 1 {held} 1", f"out 1 1 {held} 1 - -", "out 1 1 1 1 -",
+                    "out 1 1 1-1 1 -",
                     f"out 1 01 {held} 1 -", f"Out 1 1 {held} 1 -", "out", f"out 1 1 {held} 1 7,"):
             self.not_read(at, changed(FULL, at, row))
         # Numbers of parcels to one hand rise one by one, whatever stands between.
@@ -252,13 +263,15 @@ class Refused(WorldTextCase):
 
     def test_rows_of_the_log_rise(self):
         at = place(FULL, "log 2 1.0 8 0-2")
-        for row in ("log 0 1.0 8 0-2", "log 0 0.1 8 0-2", "log 2 - 8 0-2", "log 2 1.0 - 0-2", "log - 1.0 8 0-2", "log 2 1.0 8",
+        for row in ("log 0 1.0 8 0-2", "log 0 0.1 8 0-2", "log 2 - 8 0-2", "log 2 1.0 - 0-2", "log - 1.0 8 0-2",
+                    "log 2 1.0 8",
                     "log 2 1.0 8 0-2 -", "log 2 1.0 8 0-0", "log 2 1.0 8,9 0-2", "logs 2 1.0 8 0-2", "log 2 1 8 0-2"):
             self.not_read(at, changed(FULL, at, row))
         self.not_read(at + 1, changed(FULL, at, "log 3 1.0 8 0-2"))
         self.not_read(at + 1, changed(FULL, at, "log 3 1.1 8 0-2"))
         self.not_read(at + 1, changed(FULL, at, "log 4 1.0 8 0-2"))
-        for row in ("log 0 1.1 8 0-2", "log 0 2.0 8 0-2", "log 2 1.0 8 -", "log 3 0.9 8 0-2", "log 2 999999999999.7 0 0,2"):
+        for row in ("log 0 1.1 8 0-2", "log 0 2.0 8 0-2", "log 2 1.0 8 -", "log 3 0.9 8 0-2",
+                    "log 2 999999999999.7 0 0,2"):
             if row == "log 3 0.9 8 0-2":
                 self.not_read(at, changed(FULL, at, row))
             else:
@@ -274,6 +287,12 @@ class Refused(WorldTextCase):
                 self.is_told(show_world(read_world(text)), text)
             else:
                 self.not_read(wrong, text)
+        for numbers in ((3, 5, 4), (3, 5, 5), (3, 5, 3), (4, 3, 5), (3, 4, 9)):
+            text = "\n".join(rows[:at] + [f"counts {number} 0" for number in numbers] + rows[at + 1:])
+            if numbers == (3, 4, 9):
+                self.is_told(show_world(read_world(text)), text)
+            else:
+                self.not_read(at + (1 if numbers[1] == 3 else 2), text)
 
     def test_letters(self):
         rows = FIRST.split("\n")

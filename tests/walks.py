@@ -42,7 +42,8 @@ class Walk:
         if word in ("come", "lose", "double"):
             # Mostly the letters come as they were sent, else nothing would ever be chosen.
             return (word, self.dice.randrange(many) if self.dice.random() < 0.4 else 0)
-        name = self.dice.choice(self.with_most() or list(self.names)) if word == "offer" else self.dice.choice(self.names)
+        names = self.with_most() if word == "offer" else []
+        name = self.dice.choice(names or list(self.names))
         return (word, name) + getattr(self, "parts_of_" + word, lambda name: ())(name)
 
     def with_most(self):
