@@ -42,6 +42,13 @@ class Watch:
         self.case = case
         self.places, self.words, self.known, self.papers = None, {}, {}, {}
 
+    def copy(self):
+        """A watch that goes on from the same moment."""
+        other = Watch(self.case)
+        other.places = self.places
+        other.words, other.known, other.papers = dict(self.words), dict(self.known), dict(self.papers)
+        return other
+
     def look(self, world):
         self.look_at_points(world)
         found = chosen_of(world)
