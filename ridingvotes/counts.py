@@ -8,7 +8,12 @@ from ridingvotes.slips import later
 
 def gathered(one, other):
     """The holding of the points of either, of a point of both with the later one of its slips."""
-    both = [(first, last, later(one[at][2], other[place][2])) for first, last, at, place in overlaps(one, other)]
+    if one == () or other == ():
+        return one + other
+    shared = overlaps(one, other)
+    if shared == []:
+        return knitted(sorted(one + other))
+    both = [(first, last, later(one[at][2], other[place][2])) for first, last, at, place in shared]
     _, ones = cut(one, lot_held(other))
     _, others = cut(other, lot_held(one))
     return knitted(sorted([*both, *ones, *others]))

@@ -7,14 +7,10 @@ from ridingvotes.holdings import at_floor, cut, lot_held
 from ridingvotes.keeping import Keeper
 from ridingvotes.letters import is_letter, rows_told
 from ridingvotes.lots import is_lot, size, without
+from ridingvotes.pairs import put, replaced, worth
 
 # How far beyond the first row that it doesn't know a hand may offer.
 BEYOND = 19
-
-
-def pairs_of(table):
-    """The rising tuple of (row, what the table has of it)."""
-    return tuple(sorted(table.items()))
 
 
 def is_received(parcel, receipt):
@@ -30,15 +26,14 @@ class Hand(Keeper):
 
     def book(self):
         """What it has written down, which no fall takes."""
-        log = tuple(sorted([key + self.log[key] for key in self.log]))
-        return (self.name, self.holding, self.heard, pairs_of(self.standing), self.number, pairs_of(self.offers),
-                self.known, pairs_of(self.more), self.outbox, tuple(self.sent), tuple(self.taken), log)
+        return (self.name, self.holding, self.heard, self.standing, self.number, self.offers, self.known, self.more,
+                self.outbox, self.sent, self.taken, self.log)
 
     def mind(self):
         """What a fall takes, None while it is down."""
         if not self.is_up:
             return None
-        return (self.gathered, pairs_of(self.counts), tuple(self.learns), self.late)
+        return (self.gathered, self.counts, self.learns, self.late)
 
     def held(self):
         """How many points it has."""
@@ -55,8 +50,8 @@ class Hand(Keeper):
         if not is_from(number, self.number + 1):
             raise OldBallot(number)
         self.number = number
-        self.offers = {}
-        self.counts = {}
+        self.offers = ()
+        self.counts = ()
         self.gathered = ()
         if self.own_ballot() < self.heard:
             self.late = max(self.late, self.heard)
@@ -69,8 +64,8 @@ class Hand(Keeper):
         self.check_up()
         self.check_row(row)
         word = self.word_to_offer(row, word)
-        self.offers[row] = word
-        letters = self.offering_letters(row)
+        self.offers = put(self.offers, row, word)
+        letters = self.offering_letters(row, word)
         if self.own_ballot() < self.heard:
             self.late = max(self.late, self.heard)
             return (word, letters)
@@ -88,7 +83,7 @@ class Hand(Keeper):
             raise NotHeld(lacking[0][0])
         part, self.holding = cut(self.holding, lot)
         parcel = (to, self.sent[to], part) + self.news_for(to)
-        self.sent[to] += 1
+        self.sent = replaced(self.sent, to, self.sent[to] + 1)
         self.outbox = self.outbox + (parcel,)
         return (self.parcel_letter(parcel),)
 
@@ -99,8 +94,8 @@ class Hand(Keeper):
         if self.gathered is None:
             return letters
         letters = letters + self.asking_letters()
-        for row in sorted(self.offers):
-            letters = letters + self.offering_letters(row)
+        for row, word in self.offers:
+            letters = letters + self.offering_letters(row, word)
         return letters
 
     def fall(self):
@@ -122,7 +117,13 @@ class Hand(Keeper):
         self.check_up()
         if not self.is_mine(letter):
             raise NotMine(letter)
-        self.learns[letter[1]] = max(self.learns[letter[1]], rows_told(letter))
+        return self.answer(letter)
+
+    def answer(self, letter):
+        """It hears the letter, which is surely one to it, and it is up: told are the letters that it sends for it."""
+        sender, rows = letter[1], rows_told(letter)
+        if rows > self.learns[sender]:
+            self.learns = replaced(self.learns, sender, rows)
         kind = letter[0]
         if kind == "ask":
             return self.hear_ask(letter)
@@ -160,9 +161,10 @@ class Hand(Keeper):
 
     def word_to_offer(self, row, word):
         """The word that it must offer of the row, else the one handed in."""
-        if row in self.offers:
-            return self.offers[row]
-        return dict(must(self.gathered)).get(row, word)
+        offered = worth(self.offers, row)
+        if offered is None:
+            offered = worth(must(self.gathered), row)
+        return word if offered is None else offered
 
     def count_taken(self, row, lot):
         """The points of the lot took what it offers: told are the letters to those who know fewer rows then."""
@@ -226,7 +228,7 @@ class Hand(Keeper):
         if number < self.taken[giver]:
             return (self.receipt_letter(giver),)
         self.learn(since, words)
-        self.taken[giver] += 1
+        self.taken = replaced(self.taken, giver, self.taken[giver] + 1)
         # Counting may make more rows known; the receipt tells how many it knew ahead of that.
         receipt = self.receipt_letter(giver)
         told, lots = self.take_in(at_floor(holding, len(self.known)))
@@ -261,9 +263,9 @@ class Hand(Keeper):
         """Its asking, to all others."""
         return tuple([("ask", self.name, to, self.own_ballot(), len(self.known)) for to in self.others()])
 
-    def offering_letters(self, row):
+    def offering_letters(self, row, word):
         """Its offer of the row, to all others."""
-        return tuple([("offer", self.name, to, self.own_ballot(), row, self.offers[row]) for to in self.others()])
+        return tuple([("offer", self.name, to, self.own_ballot(), row, word) for to in self.others()])
 
     def took_letter(self, to, ballot, row, lot):
         """Which of its points took an offer of the other hand."""

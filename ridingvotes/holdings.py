@@ -59,6 +59,8 @@ def put_in(one, other):
 
 def at_floor(holding, floor):
     """The holding, each slip without what it took of rows below floor."""
+    if floor == 0:
+        return holding
     return knitted([(first, last, above(slip, floor)) for first, last, slip in holding])
 
 

@@ -4,17 +4,16 @@ from ridingvotes.basics import is_from
 from ridingvotes.counts import gathered, is_most
 from ridingvotes.holdings import at_floor, put_in
 from ridingvotes.lots import joined
+from ridingvotes.pairs import pairs_from, put, replaced, worth, written
 from ridingvotes.points import promising, taking
 from ridingvotes.slips import NONE
 
 
-def rows_from(table, floor):
-    """A dict of what the table, a dict by rows, has of the rows from floor on."""
-    return {row: table[row] for row in table if row >= floor}
-
-
 class Keeper:
-    """One of several hands, without its deeds and letters."""
+    """One of several hands, without its deeds and letters.
+
+    All that it keeps are numbers, truths and tuples, so that a copy of it may have the very same ones.
+    """
 
     def __init__(self, name, hands, points, holding):
         self.name = name
@@ -22,24 +21,23 @@ class Keeper:
         self.all_points = points
         self.holding = holding
         self.heard = NONE
-        self.standing = {}
+        self.standing = ()
         self.number = 0
-        self.offers = {}
+        self.offers = ()
         self.known = ()
-        self.more = {}
+        self.more = ()
         self.outbox = ()
-        self.sent = [0] * hands
-        self.taken = [0] * hands
-        self.log = {}
+        self.sent = (0,) * hands
+        self.taken = self.sent
+        self.log = ()
         self.is_up = True
         self.clear_mind()
 
     def clear_mind(self):
         """Its mind is as at first."""
         self.gathered = None
-        self.counts = {}
-        self.learns = [0] * self.many_hands
-        self.learns[self.name] = len(self.known)
+        self.counts = ()
+        self.learns = replaced((0,) * self.many_hands, self.name, len(self.known))
         self.late = NONE
 
     def others(self):
@@ -58,7 +56,7 @@ class Keeper:
 
     def is_known(self, row):
         """Whether it knows the word of the row, a whole number."""
-        return 0 <= row < len(self.known) or row in self.more
+        return 0 <= row < len(self.known) or worth(self.more, row) is not None
 
     def news_from(self, knows):
         """(since, words) for a hand that knows so many rows."""
@@ -73,14 +71,15 @@ class Keeper:
     def know(self, words):
         """It knows the words of its next rows, and what it knows beyond them without a gap."""
         self.known = self.known + words
-        while len(self.known) in self.more:
-            self.known = self.known + (self.more[len(self.known)],)
+        for row, word in self.more:
+            if row == len(self.known):
+                self.known = self.known + (word,)
         floor = len(self.known)
-        self.learns[self.name] = floor
-        self.more = rows_from(self.more, floor)
-        self.standing = rows_from(self.standing, floor)
-        self.offers = rows_from(self.offers, floor)
-        self.counts = rows_from(self.counts, floor)
+        self.learns = replaced(self.learns, self.name, floor)
+        self.more = pairs_from(self.more, floor)
+        self.standing = pairs_from(self.standing, floor)
+        self.offers = pairs_from(self.offers, floor)
+        self.counts = pairs_from(self.counts, floor)
         self.holding = at_floor(self.holding, floor)
         if self.gathered is not None:
             self.gathered = at_floor(self.gathered, floor)
@@ -91,7 +90,7 @@ class Keeper:
         """It hears an asking or an offer by the ballot, which is no lesser one than heard."""
         if ballot > self.heard:
             self.heard = ballot
-            self.standing = {}
+            self.standing = ()
 
     def promise(self, ballot):
         """It hears an asking by the ballot, its points promise: the holding of those that promised just that."""
@@ -102,9 +101,9 @@ class Keeper:
     def take(self, ballot, row, word):
         """It hears an offer by the ballot, its points take the word: the lot of those that took just this."""
         self.face(ballot)
-        self.standing[row] = word
+        self.standing = put(self.standing, row, word)
         self.holding, lot = taking(self.holding, ballot, row, word)
-        self.write_log(row, ballot, word, lot)
+        self.log = written(self.log, row, ballot, word, lot)
         return lot
 
     def take_in(self, part):
@@ -118,18 +117,12 @@ class Keeper:
             return ((), ())
         part, told = promising(part, self.heard)
         lots = []
-        for row in sorted(self.standing):
-            part, lot = taking(part, self.heard, row, self.standing[row])
-            self.write_log(row, self.heard, self.standing[row], lot)
+        for row, word in self.standing:
+            part, lot = taking(part, self.heard, row, word)
+            self.log = written(self.log, row, self.heard, word, lot)
             lots.append((row, lot))
         self.holding = put_in(self.holding, part)
         return (told, tuple(lots))
-
-    def write_log(self, row, ballot, word, lot):
-        """The log has the lot, too, with what it has of the row and ballot."""
-        if lot != ():
-            _, had = self.log.get((row, ballot), (word, ()))
-            self.log[(row, ballot)] = (word, joined(had, lot))
 
     # What its own ballot came to.
 
@@ -144,12 +137,14 @@ class Keeper:
 
     def note_taken(self, row, lot):
         """The points of the lot took what it offers of the row, which is chosen so, perhaps."""
-        if row not in self.offers or row in self.more:
+        word = worth(self.offers, row)
+        if word is None or worth(self.more, row) is not None:
             return
-        self.counts[row] = joined(self.counts.get(row, ()), lot)
-        if not self.has_most(self.counts[row]):
+        took = joined(worth(self.counts, row) or (), lot)
+        self.counts = put(self.counts, row, took)
+        if not self.has_most(took):
             return
         if row == len(self.known):
-            self.know((self.offers[row],))
+            self.know((word,))
         else:
-            self.more[row] = self.offers[row]
+            self.more = put(self.more, row, word)

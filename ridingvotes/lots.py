@@ -23,6 +23,8 @@ def size(lot):
 
 def joined(one, other):
     """The lot of the points of either."""
+    if one == () or other == ():
+        return one + other
     return knitted(sorted(one + without(other, one)))
 
 

@@ -1,4 +1,4 @@
-"""Hands made anew of what they tell: of a book and a mind."""
+"""Hands made anew: of a book and a mind, or of a hand alike."""
 
 from ridingvotes.hands import Hand
 
@@ -8,32 +8,24 @@ def restored(book, mind, points):
     name, holding, heard, standing, number, offers, known, more, outbox, sent, taken, log = book
     hand = Hand(name, len(sent), points, holding)
     hand.heard = heard
-    hand.standing = dict(standing)
+    hand.standing = standing
     hand.number = number
-    hand.offers = dict(offers)
+    hand.offers = offers
     hand.known = known
-    hand.more = dict(more)
+    hand.more = more
     hand.outbox = outbox
-    hand.sent = list(sent)
-    hand.taken = list(taken)
-    hand.log = {(row, ballot): (word, lot) for row, ballot, word, lot in log}
+    hand.sent = sent
+    hand.taken = taken
+    hand.log = log
     hand.is_up = mind is not None
-    # What a rise finds is made behind known, of which it tells how many rows there are.
-    hand.clear_mind()
-    if mind is not None:
-        put_mind(hand, mind)
+    if mind is None:
+        # What a rise finds is made behind known, of which it tells how many rows there are.
+        hand.clear_mind()
+    else:
+        hand.gathered, hand.counts, hand.learns, hand.late = mind
     return hand
 
 
-def put_mind(hand, mind):
-    """The hand has this mind."""
-    gathered, counts, learns, late = mind
-    hand.gathered = gathered
-    hand.counts = dict(counts)
-    hand.learns = list(learns)
-    hand.late = late
-
-
 def copy_of(hand):
-    """A hand alike, of its own."""
+    """A hand alike, of its own; what they keep is never changed but replaced, so that both may have the very same."""
     return restored(hand.book(), hand.mind(), hand.all_points)

@@ -39,6 +39,8 @@ def is_taking(thing, promised):
 def above(slip, floor):
     """The slip without what it took of rows below floor."""
     promised, taken = slip
+    if taken == () or taken[0][0] >= floor:
+        return slip
     return (promised, tuple([part for part in taken if part[0] >= floor]))
 
 

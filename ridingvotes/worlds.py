@@ -40,6 +40,11 @@ def is_deed(thing):
     return thing[0] in PARTS and len(thing) == PARTS[thing[0]]
 
 
+def is_deed_of_hand(thing):
+    """Whether the thing, of whatever kind, is a deed of a hand by its word and how many parts it has."""
+    return is_deed(thing) and thing[0] not in ROAD_DEEDS
+
+
 def deed_of(hand, deed):
     """The hand does the deed: told is (the word offered, or None, the letters that it sends)."""
     word = deed[0]
@@ -74,8 +79,26 @@ def ballots_of(letter):
     return [letter[3]]
 
 
+def took_by(hands):
+    """The rising tuple of (row, ballot, word, lot): all points that have ever taken the word, by the hands' logs."""
+    found = {}
+    for hand in hands:
+        for row, ballot, word, lot in hand.log:
+            found[(row, ballot, word)] = joined(found.get((row, ballot, word), ()), lot)
+    return tuple([key + (found[key],) for key in sorted(found)])
+
+
+def chosen_of(took, points):
+    """The rising tuple of (row, word): which word of a row more than half of so many points took by one ballot."""
+    found = {row: word for row, _, word, lot in took if is_most(lot, points)}
+    return tuple([(row, found[row]) for row in sorted(found)])
+
+
 class World:
-    """Hands with their points, and the letters under way between them."""
+    """Hands with their points, and the letters under way between them.
+
+    A hand is never changed but replaced by another one, so that the copies of a world may have the very same hands.
+    """
 
     def __init__(self, shares):
         if not is_shares(shares):
@@ -107,7 +130,7 @@ class World:
 
     def copy(self):
         """A world alike, of its own."""
-        return world_of(self.all_points, [copy_of(hand) for hand in self.members], list(self.letters))
+        return world_of(self.all_points, list(self.members), list(self.letters))
 
     def __eq__(self, other):
         return isinstance(other, World) and self.members == other.members and self.letters == other.letters
@@ -124,8 +147,11 @@ class World:
         if deed[0] in ROAD_DEEDS:
             self.do_on_road(deed[0], deed[1])
             return None
-        self.check_hand(deed[1])
-        told, letters = deed_of(self.members[deed[1]], deed)
+        name = deed[1]
+        self.check_hand(name)
+        hand = copy_of(self.members[name])
+        told, letters = deed_of(hand, deed)
+        self.members[name] = hand
         self.letters.extend(letters)
         return told
 
@@ -137,9 +163,11 @@ class World:
             self.letters.append(self.letters[number])
             return
         letter = self.letters.pop(number)
-        hand = self.members[letter[2]]
-        if word == "come" and hand.is_up:
-            self.letters.extend(hand.hear(letter))
+        name = letter[2]
+        if word == "come" and self.members[name].is_up:
+            hand = copy_of(self.members[name])
+            self.letters.extend(hand.answer(letter))
+            self.members[name] = hand
 
     def settle(self, hands):
         """Each of the hands does again, then their letters to one another come: told is how many came."""
@@ -204,22 +232,18 @@ class World:
 
     def took(self):
         """The rising tuple of (row, ballot, word, lot): all points that have ever taken the word."""
-        found = {}
-        for hand in self.members:
-            for row, ballot in hand.log:
-                word, lot = hand.log[(row, ballot)]
-                found[(row, ballot, word)] = joined(found.get((row, ballot, word), ()), lot)
-        return tuple([key + (found[key],) for key in sorted(found)])
+        return took_by(self.members)
 
     def chosen(self):
         """The rising tuple of (row, word): which word of a row more than half of all points took by one ballot."""
-        found = {row: word for row, _, word, lot in self.took() if is_most(lot, self.all_points)}
-        return tuple([(row, found[row]) for row in sorted(found)])
+        return chosen_of(self.took(), self.all_points)
 
     def logged(self, name, row, ballot, word):
         """The lot of the points that took the word while they were with the hand, by its log."""
-        found, lot = self.members[name].log.get((row, ballot), (word, ()))
-        return lot if found == word else ()
+        for entry in self.members[name].log:
+            if entry[:3] == (row, ballot, word):
+                return entry[3]
+        return ()
 
 
 def world_of(points, hands, letters):

@@ -1,12 +1,16 @@
 import copy
+import random
 from collections import deque
+from unittest import mock
 
 from ridingvotes.errors import Missing, VoteError
+from ridingvotes.hands import Hand
 from ridingvotes.weaving import shows_weavings, weavings
 from ridingvotes.worlds import World
 from tests.plain_world import PlainWorld
 from tests.promises import Watch
 from tests.things import DEEPEST, ODD
+from tests.walks import Walk
 from tests.world_case import WorldCase, all_told, comes, led
 
 ASK, OFFER = ("ask", 1), ("offer", 0, 7)
@@ -120,10 +124,12 @@ class Weavings(WorldCase):
         many = weavings(World((3, 2)), ((ASK,), ()))[1]
         for deed in (("ask", 0), ("offer", 0, 7), ("offer", 99, None), ("give", 0, ((0, 0),)), ("give", 5, None),
                      ("rise",),
-                     ("give", 1, ((9, 9),)), ("ask", None), ("offer", 0, -1)):
+                     ("give", 1, ((9, 9),)), ("ask", None), ("offer", 0, -1),
+                     ("ask",), ("ask", 1, 2), ("rise", 0), ("come",), ("lose",), ("double",), ("none",)):
             self.is_told(self.goes(World((3, 2)), ((deed,), ())), ("all", 2, ((((), ()), ()),)))
             # The states of the other hand's plan, and each once more with this deed done.
             self.is_told(self.goes(World((3, 2)), ((ASK,), (("rise",),)))[1], 2 * many)
+        self.is_told(self.goes(World((3, 2)), ((("fall",), ("come",), ASK), ()))[1], 4)
         self.is_told(weavings(World((3, 2)), ((("fall",), ("ask", 1), ("again",), ("fall",)), ()))[1], 5)
 
     def test_a_letter_to_a_hand_that_is_down(self):
@@ -159,6 +165,9 @@ class Weavings(WorldCase):
         # At first, one asking come, both, and of each telling none, one or both come; all alike otherwise.
         self.is_told(weavings(one, ((), ()))[1], 6)
         self.goes(led((1, 1, 1), ("ask", 0, 1), ("double", 0), ("double", 1)), ((), (), ()))
+        # To hands that are down, so that just the road is changed: of one letter none to two come, of the other one.
+        one = led((1, 1, 1), ("ask", 0, 1), ("double", 0), ("fall", 1), ("fall", 2))
+        self.is_told(self.goes(one, ((), (), ()))[1], 6)
 
     def test_the_most(self):
         plans = ((ASK, OFFER), (ASK, ("offer", 0, 8)))
@@ -192,6 +201,115 @@ class Weavings(WorldCase):
     def test_by_names(self):
         self.is_told(weavings(plans=((), ()), world=World((1, 1)), most=7), ("all", 1, ((((), ()), ()),)))
         self.assertIs(shows_weavings(thing=("open", 0), plans=((), ()), world=World((1, 1)), most=0), True)
+
+
+class ManyStates(WorldCase):
+    """Weavings that took long when each state was made anew by copies of the whole world."""
+
+    SHARES = (3, 1, 1)
+    PLANS = ((("ask", 9), ("offer", 0, 5)), (("ask", 8), ("offer", 0, 6)), (("fall",), ("rise",)))
+
+    def test_just_so_many_are_open(self):
+        world = World(self.SHARES)
+        self.is_told(weavings(world, self.PLANS, most=400), ("open", 400))
+        self.is_told(weavings(world, self.PLANS), ("open", 300))
+        self.assertIs(shows_weavings(world, self.PLANS, ("open", 400), most=400), True)
+        self.assertIs(shows_weavings(world, self.PLANS, ("open", 300)), True)
+        self.assertIs(shows_weavings(world, self.PLANS, ("open", 400)), False)
+
+    def test_the_world_stays_as_it_was(self):
+        for deeds in ((), (("ask", 0, 3),) + comes(3) + (("give", 0, 2, ((1, 2),)), ("fall", 1))):
+            world = led(self.SHARES, *deeds)
+            other, hands = world.copy(), [world.hand(name) for name in range(3)]
+            before = repr(all_told(world))
+            for most in (400, 300, 1):
+                self.is_told(weavings(world, self.PLANS, most=most), ("open", most))
+                self.assertEqual(repr(all_told(world)), before)
+                self.assertEqual(repr(all_told(other)), before)
+            self.assertTrue(world == other)
+            self.assertTrue(world == led(self.SHARES, *deeds))
+            self.assertEqual([world.hand(name) for name in range(3)], hands)
+
+    def test_all_that_comes_of_parts_of_it(self):
+        (ask, offer), (other_ask, _), falls = self.PLANS
+        world, plans = World(self.SHARES), ((ask,), (other_ask,), falls)
+        going = Going(world, plans)
+        self.is_told(weavings(world, plans, most=1146), going.told())
+        self.is_told(weavings(world, plans, most=1145), ("open", 1145))
+        ends = ((((5,), (5,), ()), ((0, 5),)), (((5,), (5,), (5,)), ((0, 5),)))
+        self.is_told(weavings(world, ((ask, offer), (), falls), most=10000), ("all", 8287, ends))
+
+    def test_each_hand_is_asked_once_by_each_letter(self):
+        """However many states have both; else it would take as long as there are states."""
+        asked = []
+
+        def answer(hand, letter):
+            asked.append(repr((hand.book(), hand.mind(), letter)))
+            return heard(hand, letter)
+
+        heard = Hand.answer
+        with mock.patch.object(Hand, "answer", answer):
+            weavings(World(self.SHARES), self.PLANS, most=400)
+        self.assertEqual(len(asked), len(set(asked)))
+        self.assertLess(len(asked), 200)
+
+
+class SmallWorlds(WorldCase):
+    """Many small worlds, one behind another."""
+
+    SHARES = ((2, 1), (1, 2), (1, 1), (3, 1), (1, 1, 1), (2, 1, 1), (0, 2), (1, 0, 2), (3,))
+
+    def deed(self, dice, name, walk):
+        word = dice.choice(("ask", "ask", "offer", "offer", "give", "again", "fall", "rise"))
+        if word == "ask":
+            return (word, walk.world.hand(name).book()[4] + dice.randrange(3))
+        if word == "offer":
+            return (word, dice.choice((0, 0, 0, 1, 25)), dice.choice((5, 6, None)))
+        if word == "give":
+            first = dice.randrange(walk.world.points())
+            return (word, dice.choice((0, 0, 1, 2)), ((first, first + dice.choice((0, 0, 1))),))
+        return (word,)
+
+    def some(self, seed):
+        """A world somewhere in a history, few letters being on its road, and plans of few deeds."""
+        dice = random.Random(seed)
+        walk = Walk(seed, self.SHARES[seed % len(self.SHARES)])
+        for _ in range(dice.choice((0, 0, 10, 40))):
+            walk.step()
+        while len(walk.world) > 3:
+            walk.world.do(("lose", dice.randrange(len(walk.world))))
+        left = dice.randrange(4)
+        plans = [[] for _ in walk.names]
+        for _ in range(left):
+            name = dice.choice(walk.names)
+            plans[name].append(self.deed(dice, name, walk))
+        return walk.world, tuple(tuple(plan) for plan in plans)
+
+    def test_as_going_through_all_states(self):
+        ends = 0
+        for seed in range(250):
+            world, plans = self.some(seed)
+            before = repr((all_told(world), plans))
+            told = weavings(world, plans, most=250)
+            self.assertEqual(repr((all_told(world), plans)), before)
+            self.assertIs(shows_weavings(world, plans, told, most=250), True)
+            if told == ("open", 250):
+                self.assertIs(shows_weavings(world, plans, told), False)
+                continue
+            self.is_told(told, Going(world, plans).told())
+            self.is_told(weavings(world, plans, most=told[1]), told)
+            self.is_told(weavings(world, plans, most=told[1] - 1), ("open", told[1] - 1))
+            ends += len(told[2])
+        self.assertGreater(ends, 200)
+
+    def test_parcels_given_in_another_order(self):
+        """Point 1 may come ahead of the first deed or just ahead of the last: outboxes unlike by their order alone."""
+        back = ("give", 1, ((1, 1),))
+        plans = ((back, ("give", 2, ((0, 0),)), back), (("give", 0, ((1, 1),)),), ())
+        going = Going(World((1, 1, 1)), plans)
+        outboxes = {world.hand(0).book()[8] for world in going.states.values()}
+        self.assertTrue(any(len(outbox) == 2 and outbox[::-1] in outboxes for outbox in outboxes))
+        self.is_told(weavings(World((1, 1, 1)), plans, most=100000), going.told())
 
 
 class ShowsWeavings(WorldCase):

@@ -5,6 +5,7 @@ from ridingvotes.hands import Hand
 from ridingvotes.worlds import World
 from tests.hand_case import NONE
 from tests.things import DEEPEST, LONG, ODD
+from tests.walks import Walk
 from tests.world_case import ASKED, CHOSEN, WorldCase, all_told, comes, led, run
 
 
@@ -180,6 +181,42 @@ class Copies(WorldCase):
         for deed in (("offer", 0, 0, 7), *comes(6), ("give", 0, 1, ((0, 1),)), ("fall", 2), ("ask", 1, 5), *comes(2)):
             self.is_told(world.do(deed), other.do(deed))
             self.assertEqual(repr(all_told(other)), repr(all_told(world)))
+
+    def test_copies_of_copies_go_ways_of_their_own(self):
+        """Behind each step of one, refused ones too, all others are as they were; so are hands that were told."""
+        many = 0
+        for seed in range(20):
+            walk = Walk(seed)
+            worlds = [walk.world]
+            for at in range(100):
+                if at % 10 == 0:
+                    worlds.append(walk.dice.choice(worlds).copy())
+                walk.world = walk.dice.choice(worlds)
+                others = [world for world in worlds if world is not walk.world]
+                hands = [world.hand(name) for world in worlds for name in walk.names]
+                before = repr([all_told(world) for world in others]), repr([(one.book(), one.mind()) for one in hands])
+                if at % 25 == 24:
+                    walk.world.settle(tuple(name for name in walk.names if walk.world.hand(name).mind() is not None))
+                else:
+                    walk.step()
+                told = repr([all_told(world) for world in others]), repr([(one.book(), one.mind()) for one in hands])
+                self.assertEqual(told, before)
+            many += len({repr(all_told(world)) for world in worlds})
+        self.assertGreater(many, 120)
+
+    def test_a_hand_that_was_told_leaves_world_and_copy_alone(self):
+        world = led((3, 3, 3), *CHOSEN, ("give", 1, 0, ((3, 3),)))
+        other = world.copy()
+        before = repr(all_told(world))
+        for name, letter in enumerate((("parcel", 1, 0, 0, (run(3, 3, (1, 0)),), 0, (7,)),
+                                       ("receipt", 0, 1, 1, 5), ("ask", 0, 2, (8, 0), 0))):
+            for hand in (world.hand(name), other.hand(name)):
+                self.assertTrue(hand.hear(letter) != () or name == 1)
+                hand.ask(9)
+                self.assertFalse(hand == world.hand(name))
+        self.assertEqual(repr(all_told(world)), before)
+        self.assertEqual(repr(all_told(other)), before)
+        self.assertTrue(world == other)
 
     def test_the_copy_knows_how_many_points_there_are(self):
         other = led((3, 1, 1), ("ask", 0, 1)).copy()
